@@ -1,0 +1,1 @@
+"""Wakesothers: what all sets of rules have in common that fit what was seen to wake."""

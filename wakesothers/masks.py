@@ -1,0 +1,55 @@
+"""Lots as masks, integers whose bit k stands for the device with number k.
+
+The ends of rules are a tuple that has, for each mask, the mask of what is on in
+the end from it. Of two masks, one of which lies within the other, it is the
+smaller integer.
+"""
+
+
+def mask_of(devices, lot):
+    return sum([1 << at for at, name in enumerate(devices) if name in lot])
+
+
+def lot_of(devices, mask):
+    return tuple([name for at, name in enumerate(devices) if mask & (1 << at)])
+
+
+def end_of(steps, mask):
+    """What is on in the end from the mask, by steps (mask, mask of the others)."""
+    before = -1
+    while before != mask:
+        before = mask
+        for first, others in steps:
+            if mask & first == first:
+                mask = mask | others
+    return mask
+
+
+def ends_of(devices, bundles):
+    steps = [(mask_of(devices, lot), mask_of(devices, others)) for lot, others in bundles]
+    return tuple([end_of(steps, mask) for mask in range(1 << len(devices))])
+
+
+def common_ends(ends, other_ends):
+    return tuple([end & other_end for end, other_end in zip(ends, other_ends)])
+
+
+def rests_of(devices, ends):
+    """The ascending tuple of all lots that stay."""
+    return tuple(sorted([lot_of(devices, mask) for mask, end in enumerate(ends) if mask == end]))
+
+
+def needing_masks(ends):
+    needing = []
+    # In this sequence all masks within a mask come ahead of it.
+    for mask, end in enumerate(ends):
+        within = [ends[fewer] for fewer in needing if mask & fewer == fewer]
+        if mask != end and all([mask & told == told for told in within]):
+            needing.append(mask)
+    return needing
+
+
+def base_bundles(devices, ends):
+    """The bundles of the least base: one for each needing lot, ascending."""
+    needing = needing_masks(ends)
+    return tuple(sorted([(lot_of(devices, mask), lot_of(devices, ends[mask] - mask)) for mask in needing]))
