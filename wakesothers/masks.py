@@ -1,8 +1,7 @@
 """Lots as masks, integers whose bit k stands for the device with number k.
 
 The ends of rules are a tuple that has, for each mask, the mask of what is on in
-the end from it. Of two masks, one of which lies within the other, it is the
-smaller integer.
+the end from it. A mask that lies within another one is the smaller integer.
 """
 
 
