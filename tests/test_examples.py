@@ -1,8 +1,14 @@
-"""The examples of the document, sections 4 and 5."""
+"""The examples of the document, sections 4 to 9, and those of README.md."""
 
 import unittest
+from doctest import testfile
+from pathlib import Path
 
 from tests.cases import Case
+from wakesothers.bases import base, needing, of_rests, own_rests
+from wakesothers.books import Book
+from wakesothers.fitting import broken, fits, possible, shows_possible
+from wakesothers.judging import either, judged, shows_judged
 from wakesothers.rules import Rules
 from wakesothers.ways import differ, shows_differ, way
 
@@ -11,6 +17,7 @@ class Examples(Case):
     def setUp(self):
         self.rules = Rules(("fan", "lamp", "pump"), ((("fan", "lamp"), ("pump",)), (("fan",), ("lamp",))))
         self.other = Rules(("fan", "lamp", "pump"), ((("fan",), ("pump",)),))
+        self.book = Book("devices fan lamp pump\nwakes fan lamp > pump\nstays lamp\nstirs fan\nsleeps pump > lamp")
 
     def test_section_4(self):
         rules, other = self.rules, self.other
@@ -27,6 +34,48 @@ class Examples(Case):
         self.alike(("sleeps", ("pump",)), way(rules, ("pump",), "lamp"))
         self.alike(("alike",), differ(rules, rules | other))
         self.is_true(shows_differ(rules, other, ("apart", ("fan", "pump"), "lamp")))
+
+    def test_section_6(self):
+        rules, other = self.rules, self.other
+        self.alike((("fan",),), needing(rules))
+        self.alike(((("fan",), ("lamp", "pump")),), base(rules).bundles)
+        self.alike((("lamp",), ("lamp", "pump"), ("pump",)), own_rests(rules))
+        self.is_true(of_rests(rules.devices, own_rests(rules)) == rules)
+        self.alike((("fan", "pump"), ("lamp",), ("lamp", "pump")), own_rests(other))
+        self.alike(((("a",), ("b",)), (("b",), ("a",))), of_rests(("a", "b"), ((),)).bundles)
+
+    def test_section_7(self):
+        book = self.book
+        self.alike(("fan", "lamp", "pump"), book.devices)
+        self.alike(("wakes", ("fan", "lamp"), "pump"), book.facts[0])
+        self.alike(4, len(book))
+        self.is_false(("stays", ()) in book)
+        self.alike("wakes > fan", book.told(("wakes", (), "fan")).text.split("\n")[-1])
+
+    def test_section_8(self):
+        book, barred = self.book, self.book.told(("stays", ("fan",)))
+        self.alike([(), ()], [broken(book, self.rules), broken(book, self.other)])
+        self.alike([True, True], [fits(book, self.rules), fits(book, self.other)])
+        self.alike(["rules", "never"], [possible(book)[0], possible(barred)[0]])
+        self.alike(("never", ("fork", 0, ())), possible(Book("devices a\nstirs a")))
+        tree = ("fork", 2, (("leaf", 4, ((2, "lamp"),)), ("leaf", 4, ((2, "pump"),))))
+        self.is_true(shows_possible(barred, ("never", tree)))
+
+    def test_section_9(self):
+        book = self.book
+        pumps, lamps = ("wakes", ("fan",), "pump"), ("wakes", ("fan",), "lamp")
+        self.alike("always", judged(book, (pumps,))[0])
+        self.alike("open", judged(book, (pumps, lamps))[0])
+        self.alike("never", judged(book, (("stays", ("fan", "lamp")),))[0])
+        self.alike("always", either(book, (lamps, ("stays", ("fan", "pump"))))[0])
+        tree = ("fork", 2, (("leaf", 4, ((2, "lamp"), (0, "pump"))), ("leaf", 4, ((2, "pump"),))))
+        self.is_true(shows_judged(book, (pumps,), ("always", (tree,))))
+
+    def test_the_examples_of_the_readme(self):
+        path = Path(__file__).resolve().parent.parent / "README.md"
+        told = testfile(str(path), module_relative=False)
+        self.assertGreater(told.attempted, 10)
+        self.assertEqual(0, told.failed)
 
 
 if __name__ == "__main__":

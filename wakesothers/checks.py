@@ -6,10 +6,25 @@ LETTERS = "abcdefghijklmnopqrstuvwxyz"
 MOST_LETTERS = 8
 MOST_DEVICES = 6
 MOST_BUNDLES = 64
+MOST_RESTS = 64
 
 
 def is_integer(value):
     return isinstance(value, int) and not isinstance(value, bool)
+
+
+def is_number(value, many):
+    """Whether the value is the number of one of so many things."""
+    return is_integer(value) and 0 <= value < many
+
+
+def has_form(value, word, many):
+    """Whether the value is a tuple of so many values that begins with the word."""
+    return isinstance(value, tuple) and len(value) == many and value[0] == word
+
+
+def has_all(on, lot):
+    return all([name in on for name in lot])
 
 
 def is_name(value):
@@ -43,6 +58,12 @@ def are_bundles(devices, value):
     if not isinstance(value, tuple) or len(value) > MOST_BUNDLES:
         return False
     return all([is_bundle(devices, bundle) for bundle in value])
+
+
+def are_rests(devices, value):
+    if not isinstance(value, tuple) or len(value) > MOST_RESTS:
+        return False
+    return all([is_lot(devices, lot) for lot in value])
 
 
 def need_lot(devices, value):

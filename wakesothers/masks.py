@@ -25,12 +25,30 @@ def end_of(steps, mask):
 
 
 def ends_of(devices, bundles):
-    steps = [(mask_of(devices, lot), mask_of(devices, others)) for lot, others in bundles]
+    return ends_by(devices, [(mask_of(devices, lot), mask_of(devices, others)) for lot, others in bundles])
+
+
+def ends_by(devices, steps):
     return tuple([end_of(steps, mask) for mask in range(1 << len(devices))])
 
 
 def common_ends(ends, other_ends):
     return tuple([end & other_end for end, other_end in zip(ends, other_ends)])
+
+
+def common_part(masks):
+    """The common part of one or more masks."""
+    common = masks[0]
+    for mask in masks[1:]:
+        common = common & mask
+    return common
+
+
+def ends_to(devices, rests):
+    """The ends by which just all devices, and the common parts of one or more of the masks, stay."""
+    every = (1 << len(devices)) - 1
+    above = [[rest for rest in rests if mask & rest == mask] for mask in range(every + 1)]
+    return tuple([common_part([every, *told]) for told in above])
 
 
 def rests_of(devices, ends):

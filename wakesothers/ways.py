@@ -1,6 +1,6 @@
 """By which bundles a device comes on, and where two Rules part."""
 
-from wakesothers.checks import is_integer, is_lot, need_device, need_same_devices
+from wakesothers.checks import has_all, has_form, is_lot, is_number, need_device, need_same_devices
 
 
 def way(rules, lot, device):
@@ -18,7 +18,7 @@ def shows_way(rules, lot, device, value):
     need_device(rules.devices, device)
     if device not in rest:
         return value == ("sleeps", rest)
-    if not isinstance(value, tuple) or len(value) != 2 or value[0] != "wakes":
+    if not has_form(value, "wakes", 2):
         return False
     return _are_numbers(rules, value[1]) and _leads(rules, lot, device, value[1])
 
@@ -39,7 +39,7 @@ def shows_differ(one, other, value):
     need_same_devices(one, other)
     if one == other:
         return value == ("alike",)
-    if not isinstance(value, tuple) or len(value) != 3 or value[0] != "apart":
+    if not has_form(value, "apart", 3):
         return False
     return is_lot(one.devices, value[1]) and value[2] in _apart(one, other, value[1])
 
@@ -60,7 +60,7 @@ def _waking(rules, on):
     return [
         number
         for number, (lot, others) in enumerate(rules.bundles)
-        if _has_all(on, lot) and not _has_all(on, others)
+        if has_all(on, lot) and not has_all(on, others)
     ]
 
 
@@ -68,7 +68,7 @@ def _are_numbers(rules, value):
     if not isinstance(value, tuple):
         return False
     # Only integers go into the set: it cannot take each value.
-    right = all([is_integer(number) and 0 <= number < len(rules) for number in value])
+    right = all([is_number(number, len(rules)) for number in value])
     return right and len(set(value)) == len(value)
 
 
@@ -77,14 +77,10 @@ def _leads(rules, lot, device, numbers):
     on = list(lot)
     for number in numbers:
         first, others = rules.bundles[number]
-        if not _has_all(on, first):
+        if not has_all(on, first):
             return False
         on.extend(others)
     return device in on
-
-
-def _has_all(on, lot):
-    return all([name in on for name in lot])
 
 
 def _apart(one, other, lot):
