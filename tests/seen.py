@@ -224,6 +224,36 @@ def great_books():
     return found
 
 
+# No Rules fit any of these books, and without any one of its facts some do: all three facts stirs have to be forked.
+TIGHT = (
+    "stirs b e\nstirs f\nstirs d e\nstays a d e f\nwakes b c e > f\nwakes d e f > a\nwakes a d > f\nsleeps b e > a\nsleeps a c d > e",
+    "stirs b f\nstirs a\nstirs a f\nwakes a b e > c\nwakes a b c > f\nsleeps a > e\nsleeps a e > d\nsleeps a d f > c\nsleeps b c f > a",
+    "stirs f\nstirs b f\nstirs c\nstays a b f\nstays c d\nwakes a c d f > e\nsleeps c f > e",
+    "stirs a\nstirs d e\nstirs b\nstays b d e\nstays b d\nwakes b c d e > f\nsleeps a d f > b\nsleeps a > d\nsleeps a b e > f",
+)
+
+
+def tight_books():
+    return [Book("devices a b c d e f\n" + text) for text in TIGHT]
+
+
+@cache
+def deep_cases():
+    """Facts of six devices, and two more facts stirs: no Rules fit all, and without any one of the five stirs some do."""
+    facts = (
+        ("stirs", ("b", "d")), ("stirs", ("b", "c", "d")), ("stirs", ("c", "e")), ("stays", ("a", "c", "e", "f")),
+        ("wakes", ("c", "d", "f"), "e"), ("wakes", ("b", "e", "f"), "a"), ("sleeps", ("b", "d"), "a"),
+    )
+    more = (("stirs", ("b", "d", "e")), ("stirs", ("b", "d", "f")))
+    chance = Random(3)
+    found = []
+    for _ in range(20):
+        table = dict(zip(SIX, chance.sample(SIX, 6)))
+        told = [renamed(table, SIX, fact) for fact in facts + more]
+        found.append((tuple(told[:7]), tuple(told[7:])))
+    return found
+
+
 def renamed(table, devices, fact):
     """The fact told of devices of other names, which stand in this sequence."""
     lot = in_sequence(devices, [table[name] for name in fact[1]])

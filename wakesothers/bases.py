@@ -2,8 +2,8 @@
 
 from wakesothers.checks import are_devices, are_rests
 from wakesothers.errors import BadDevices, BadRests
-from wakesothers.masks import base_bundles, common_part, ends_of, ends_to, lot_of, mask_of
-from wakesothers.rules import Rules
+from wakesothers.masks import common_part, ends_of, ends_to, lots_of, mask_of
+from wakesothers.rules import rules_by
 
 
 def needing(rules):
@@ -13,14 +13,13 @@ def needing(rules):
 
 def base(rules):
     """The equal Rules with a bundle for each needing lot; none have fewer bundles."""
-    ends = ends_of(rules.devices, rules.bundles)
-    return Rules(rules.devices, base_bundles(rules.devices, ends))
+    return rules_by(rules.devices, ends_of(rules.devices, rules.bundles))
 
 
 def own_rests(rules):
     """The ascending tuple of the lots that stay, but come of no others that stay."""
     rests = [mask_of(rules.devices, lot) for lot in rules.rests]
-    return tuple([lot_of(rules.devices, rest) for rest in rests if _is_own(rests, rest)])
+    return lots_of(rules.devices, [rest for rest in rests if _is_own(rests, rest)])
 
 
 def of_rests(devices, rests):
@@ -29,8 +28,7 @@ def of_rests(devices, rests):
         raise BadDevices(devices)
     if not are_rests(devices, rests):
         raise BadRests(rests)
-    ends = ends_to(devices, [mask_of(devices, lot) for lot in rests])
-    return Rules(devices, base_bundles(devices, ends))
+    return rules_by(devices, ends_to(devices, [mask_of(devices, lot) for lot in rests]))
 
 
 def _is_own(rests, rest):

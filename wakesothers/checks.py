@@ -7,6 +7,7 @@ MOST_LETTERS = 8
 MOST_DEVICES = 6
 MOST_BUNDLES = 64
 MOST_RESTS = 64
+MOST_PRICE = 9
 
 
 def is_integer(value):
@@ -16,6 +17,10 @@ def is_integer(value):
 def is_number(value, many):
     """Whether the value is the number of one of so many things."""
     return is_integer(value) and 0 <= value < many
+
+
+def is_price(value):
+    return is_integer(value) and 1 <= value <= MOST_PRICE
 
 
 def has_form(value, word, many):

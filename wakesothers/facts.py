@@ -26,6 +26,10 @@ def contrary(fact):
     return (CONTRARIES[fact[0]], *fact[1:])
 
 
+def contraries(facts):
+    return tuple([contrary(fact) for fact in facts])
+
+
 def is_so(rules, fact):
     kind, lot = fact[:2]
     rest = rules.rest(lot)
@@ -41,12 +45,24 @@ def has_most(facts, kind):
     return len([fact for fact in facts if fact[0] == kind]) >= MOST_FACTS[kind]
 
 
+def are_names(words):
+    """Whether each may stand for a name in a line, of whatever devices."""
+    return all([word not in ("", ">", ":") for word in words])
+
+
+def fact_told(words):
+    """The fact that the words tell, words as they stand, or None if they have no such form."""
+    if words[0] in ("stays", "stirs") and are_names(words):
+        return (words[0], tuple(words[1:]))
+    if words[0] in ("wakes", "sleeps") and len(words) > 2 and words[-2] == ">":
+        if are_names(words[:-2]) and are_names(words[-1:]):
+            return (words[0], tuple(words[1:-2]), words[-1])
+    return None
+
+
 def fact_of(devices, line):
     """The fact that the line tells, or None if it tells none."""
-    words = line.split(" ")
-    fact = (words[0], tuple(words[1:]))
-    if len(words) > 2 and words[-2] == ">":
-        fact = (words[0], tuple(words[1:-2]), words[-1])
+    fact = fact_told(line.split(" "))
     return fact if is_fact(devices, fact) else None
 
 

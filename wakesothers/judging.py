@@ -2,19 +2,19 @@
 
 from wakesothers.checks import has_form
 from wakesothers.errors import BadClaims
-from wakesothers.facts import are_claims, contrary, is_so
+from wakesothers.facts import are_claims, contraries, is_so
 from wakesothers.fitting import are_fitting, need_rules
-from wakesothers.search import rules_or_tree
-from wakesothers.trees import is_tree
+from wakesothers.search import rules_or_tree, rules_or_trees
+from wakesothers.trees import are_trees, is_tree
 
 
 def judged(book, claims):
     """("always", trees), ("never", tree) or ("open", rules, other): whether all claims are so."""
     _need(book, claims)
-    so = _found_with(book, claims)
+    so = rules_or_tree(book.devices, book.facts + claims)
     if so[0] == "never":
         return ("never", so[1])
-    not_so = _first_with(book, _contraries(claims))
+    not_so = rules_or_trees(book.devices, book.facts, contraries(claims))
     if not_so[0] == "never":
         return ("always", not_so[1])
     return ("open", so[1], not_so[1])
@@ -24,9 +24,9 @@ def shows_judged(book, claims, value):
     """Whether the value is a result of judged, whoever made it."""
     _need(book, claims)
     if has_form(value, "always", 2):
-        return _are_trees_with(book, _contraries(claims), value[1])
+        return are_trees(book.devices, book.facts, contraries(claims), value[1])
     if has_form(value, "never", 2):
-        return _is_tree_with(book, claims, value[1])
+        return is_tree(book.devices, book.facts + claims, value[1])
     if not _are_two_that_fit(book, value):
         return False
     return all(_so(value[1], claims)) and not all(_so(value[2], claims))
@@ -35,10 +35,10 @@ def shows_judged(book, claims, value):
 def either(book, claims):
     """("always", tree), ("never", trees) or ("open", rules, other): whether any claim is so."""
     _need(book, claims)
-    none_so = _found_with(book, _contraries(claims))
+    none_so = rules_or_tree(book.devices, book.facts + contraries(claims))
     if none_so[0] == "never":
         return ("always", none_so[1])
-    so = _first_with(book, claims)
+    so = rules_or_trees(book.devices, book.facts, claims)
     if so[0] == "never":
         return ("never", so[1])
     return ("open", so[1], none_so[1])
@@ -48,9 +48,9 @@ def shows_either(book, claims, value):
     """Whether the value is a result of either, whoever made it."""
     _need(book, claims)
     if has_form(value, "always", 2):
-        return _is_tree_with(book, _contraries(claims), value[1])
+        return is_tree(book.devices, book.facts + contraries(claims), value[1])
     if has_form(value, "never", 2):
-        return _are_trees_with(book, claims, value[1])
+        return are_trees(book.devices, book.facts, claims, value[1])
     if not _are_two_that_fit(book, value):
         return False
     return any(_so(value[1], claims)) and not any(_so(value[2], claims))
@@ -62,41 +62,9 @@ def _need(book, claims):
     need_rules(book)
 
 
-def _contraries(claims):
-    return tuple([contrary(claim) for claim in claims])
-
-
 def _so(rules, claims):
     """For each claim, whether it is so of the Rules."""
     return [is_so(rules, claim) for claim in claims]
-
-
-def _found_with(book, facts):
-    """("rules", Rules) or ("never", tree) of the book with these facts."""
-    return rules_or_tree(book.devices, book.facts + facts)
-
-
-def _first_with(book, facts):
-    """("rules", Rules) of the book with any of the facts, or ("never", trees of the book with each)."""
-    trees = []
-    for fact in facts:
-        told = _found_with(book, (fact,))
-        if told[0] == "rules":
-            return told
-        trees.append(told[1])
-    return ("never", tuple(trees))
-
-
-def _is_tree_with(book, facts, value):
-    """Whether the value is a tree of the book with these facts."""
-    return is_tree(book.devices, book.facts + facts, value)
-
-
-def _are_trees_with(book, facts, value):
-    """Whether the value is a tuple with a tree of the book with each of the facts."""
-    if not isinstance(value, tuple) or len(value) != len(facts):
-        return False
-    return all([_is_tree_with(book, (fact,), tree) for fact, tree in zip(facts, value)])
 
 
 def _are_two_that_fit(book, value):

@@ -13,6 +13,16 @@ def lot_of(devices, mask):
     return tuple([name for at, name in enumerate(devices) if mask & (1 << at)])
 
 
+def lots_of(devices, masks):
+    """The ascending tuple of the lots of these masks."""
+    return tuple(sorted([lot_of(devices, mask) for mask in masks]))
+
+
+def single_masks(devices):
+    """For each device the mask of it alone."""
+    return [1 << at for at in range(len(devices))]
+
+
 def end_of(steps, mask):
     """What is on in the end from the mask, by steps (mask, mask of the others)."""
     before = -1
@@ -32,6 +42,11 @@ def ends_by(devices, steps):
     return tuple([end_of(steps, mask) for mask in range(1 << len(devices))])
 
 
+def ends_with(ends, first, others):
+    """The ends of the same rules with a step more, from the mask first to the others."""
+    return tuple([ends[end | others] if end & first == first else end for end in ends])
+
+
 def common_ends(ends, other_ends):
     return tuple([end & other_end for end, other_end in zip(ends, other_ends)])
 
@@ -46,14 +61,14 @@ def common_part(masks):
 
 def ends_to(devices, rests):
     """The ends by which just all devices, and the common parts of one or more of the masks, stay."""
-    every = (1 << len(devices)) - 1
-    above = [[rest for rest in rests if mask & rest == mask] for mask in range(every + 1)]
+    every = mask_of(devices, devices)
+    above = [[rest for rest in rests if mask & rest == mask] for mask in range(1 << len(devices))]
     return tuple([common_part([every, *told]) for told in above])
 
 
 def rests_of(devices, ends):
     """The ascending tuple of all lots that stay."""
-    return tuple(sorted([lot_of(devices, mask) for mask, end in enumerate(ends) if mask == end]))
+    return lots_of(devices, [mask for mask, end in enumerate(ends) if mask == end])
 
 
 def needing_masks(ends):

@@ -44,10 +44,13 @@ class Rules:
 
     def __or__(self, other):
         need_same_devices(self, other)
-        ends = ends_of(self.devices, self.bundles + other.bundles)
-        return Rules(self.devices, base_bundles(self.devices, ends))
+        return rules_by(self.devices, ends_of(self.devices, self.bundles + other.bundles))
 
     def __and__(self, other):
         need_same_devices(self, other)
-        ends = common_ends(self._ends, other._ends)
-        return Rules(self.devices, base_bundles(self.devices, ends))
+        return rules_by(self.devices, common_ends(self._ends, other._ends))
+
+
+def rules_by(devices, ends):
+    """The Rules of these ends, by their base."""
+    return Rules(devices, base_bundles(devices, ends))

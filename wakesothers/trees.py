@@ -8,6 +8,13 @@ def is_tree(devices, facts, value):
     return _is_branch(devices, facts, (), value)
 
 
+def are_trees(devices, facts, more, value):
+    """Whether the value is a tuple that has, for each fact more, a tree of the facts with it."""
+    if not isinstance(value, tuple) or len(value) != len(more):
+        return False
+    return all([is_tree(devices, (*facts, fact), tree) for fact, tree in zip(more, value)])
+
+
 def _is_branch(devices, facts, chosen, value):
     """Whether it is a tree below forks in which (number, device) were chosen."""
     if not isinstance(value, tuple) or len(value) != 3:
