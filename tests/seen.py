@@ -5,7 +5,10 @@ from random import Random
 
 from tests.plain import SIX, all_lots, end, ends, every_rules, in_sequence, some_bundles
 from wakesothers.books import Book
+from wakesothers.desk import Desk
+from wakesothers.journals import journal
 from wakesothers.rules import Rules
+from wakesothers.watches import Watch
 
 KINDS = ("stays", "stirs", "wakes", "sleeps")
 MOST = {"stays": 8, "stirs": 3, "wakes": 8, "sleeps": 8}
@@ -155,11 +158,15 @@ def forks(tree):
 
 
 def shape(value):
-    """The value with all Rules and Books told as tuples: what can be compared, kinds and all."""
+    """The value with all Rules, Books, Watches and Desks told as tuples: what can be compared, kinds and all."""
     if isinstance(value, Rules):
         return ("Rules", value.devices, value.bundles, value.rests)
     if isinstance(value, Book):
         return ("Book", value.text, value.devices, value.facts)
+    if isinstance(value, Watch):
+        return ("Watch", journal(value), shape(value.book), value.on, value.done)
+    if isinstance(value, Desk):
+        return ("Desk", shape(value.watch))
     if isinstance(value, tuple):
         return tuple(shape(part) for part in value)
     return value

@@ -10,7 +10,9 @@ def drop_line(number):
 
 
 def put_line(device, came):
-    return " ".join(["put", device, *([":", *came] if came else [])])
+    if came:
+        return " ".join(["put", device, ":", *came])
+    return f"put {device}"
 
 
 def deed_told(words):
