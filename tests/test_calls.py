@@ -144,7 +144,8 @@ LIVE_CALLS = [
     (desk, "say", {"line": lambda: "put lamp"}),
 ]
 # What changes nothing.
-ASKING_CALLS = [case for case in LIVE_CALLS if case[1] in ("coming", "judged", "tried", "copy", trials, shows_trials, Watch, journal, read_journal, Desk)]
+ASKING_CALLS = [case for case in LIVE_CALLS if case[1] in ("coming", "judged", "tried", "copy", trials, shows_trials, Watch, journal,
+    read_journal, Desk)]
 REFUSED = [
     (BadDevices, Rules, (["a"], None)), (BadBundles, Rules, (THREE, [("fan",)])), (BadLot, rules().rest, ("fan",)),
     (BadDevices, of_rests, (["a"], None)), (BadRests, of_rests, (THREE, [()])), (OtherDevices, rules().is_within, (Rules(("a",)),)),
@@ -159,11 +160,15 @@ MORE_REFUSED = [
     (NoRules, comes, (barred(), None)), (NoRules, ends, (barred(), ["fan"])), (BadLot, comes, (book(), ["fan"])), (BadLot, ends, (book(), ("fox",))),
     (NoRules, sure, (barred(),)), (NoRules, outer, (barred(),)), (NoRules, starters, (barred(), None)), (BadLot, blockers, (book(), ["fan"])),
     (BadLot, chances, (book(), "fan")), (BadLot, cheapest, (book(), ["fan"], None)), (BadPrices, cheapest, (book(), ("fan",), [1, 1, 1])),
-    (OtherDevices, within, (book(), rules())), (NoRules, within, (barred(), book())), (OtherDevices, alike, (barred(), [book()])), (NoRules, alike, (book(), barred())),
+    (OtherDevices, within, (book(), rules())), (NoRules, within, (barred(), book())), (OtherDevices, alike, (barred(), [book()])), (NoRules,
+    alike, (book(), barred())),
     (NoRules, shows_within, (barred(), book(), None)), (OtherDevices, shows_alike, (book(), None, None)), (NoRules, needless, (barred(),)),
-    (BadOffers, trials, (barred(), [OFFERS[0]], None)), (BadClaim, trials, (barred(), OFFERS, ["stays", ()])), (NoRules, trials, (barred(), OFFERS, LAMPS)),
-    (BadOffers, shows_trials, (book(), (), LAMPS, None)), (NoRules, Watch, (barred(),)), (BadFact, watch().tell, (["stays", ()],)), (NoFact, watch().drop, (True,)),
-    (BadDevice, watch().put, (["lamp"], ())), (IsOn, watch().put, ("pump", ())), (BadLot, watch().put, ("lamp", ["fan"])), (BadDevice, watch().coming, (("fan",),)),
+    (BadOffers, trials, (barred(), [OFFERS[0]], None)), (BadClaim, trials, (barred(), OFFERS, ["stays", ()])), (NoRules, trials, (barred(),
+    OFFERS, LAMPS)),
+    (BadOffers, shows_trials, (book(), (), LAMPS, None)), (NoRules, Watch, (barred(),)), (BadFact, watch().tell, (["stays", ()],)), (NoFact,
+    watch().drop, (True,)),
+    (BadDevice, watch().put, (["lamp"], ())), (IsOn, watch().put, ("pump", ())), (BadLot, watch().put, ("lamp", ["fan"])), (BadDevice,
+    watch().coming, (("fan",),)),
     (BadClaims, watch().judged, ([PUMPS],)), (BadLine, desk().say, ("nothing",)), (BadLine, desk().say, (["on"],)),
 ]
 

@@ -354,7 +354,8 @@ class Promise51(Case):
         there, back = (("leaf", 1, ((0, "b"),)),), (("fork", 0, (("leaf", 1, ((0, "b"),)),)),)
         self.is_true(shows_alike(one, other, ("alike", there, back)))
         self.is_true(shows_alike(other, one, ("alike", back, there)))
-        for value in (("alike", back, there), ("alike", there, there), ("alike", back, back), ("alike", there), ("alike", (), ()), ("alike", there, ())):
+        for value in (("alike", back, there), ("alike", there, there), ("alike", back, back), ("alike", there), ("alike", (), ()), ("alike",
+            there, ())):
             self.is_false(shows_alike(one, other, value))
 
 

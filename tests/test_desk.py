@@ -152,16 +152,23 @@ class Promise75(Case):
         desk = Desk(START + "\nput fan : pump\noff")
         desk.watch.undo()
         values = [
-            "", " ", "  ", "\n", "off\n", "\noff", "off\noff", "on ", " on", "on fan", "on on", "ON", "undo ", "undo 1", "redo redo", "un do", "seen", "journal",
-            "coming", "coming ", "coming fan lamp", "coming  fan", "coming fan ", "coming >", "coming :", "coming fan : pump", "surely ", "surely  fan",
+            "", " ", "  ", "\n", "off\n", "\noff", "off\noff", "on ", " on", "on fan", "on on", "ON", "undo ", "undo 1", "redo redo",
+            "un do", "seen", "journal",
+            "coming", "coming ", "coming fan lamp", "coming  fan", "coming fan ", "coming >", "coming :", "coming fan : pump", "surely ",
+            "surely  fan",
             "surely fan ", "surely >", "surely fan : lamp", "surely fan > pump", "perhaps :", "perhaps ", "starters ", "starters  fan",
-            "starters >", "blockers ", "blockers :", "is", "is ", "is  stays", "is stays ", "is stays >", "is wakes fan", "is wakes fan >", "is wakes", "is fan",
+            "starters >", "blockers ", "blockers :", "is", "is ", "is  stays", "is stays ", "is stays >", "is wakes fan", "is wakes fan >",
+            "is wakes", "is fan",
             "is is stays", "is off", "is drop 1", "is stays fan\n", "is\nstays", "is stays fan > pump", "drop", "drop ", "drop 01",
-            "drop -1", "drop +1", "drop 1 ", "drop x", "drop 1 1", "put", "put ", "put fan :", "put fan : ", "put fan lamp", "put fan :  pump", "put : fan",
-            "put > ", "put fan : >", "put fan : pump > lamp", "wakes fan", "wakes >", "wakes > >", "wakes fan > pump ", "sleeps fan pump", "stays  fan",
-            "stays fan ", "stays :", "stirs >", "tell stays", "keep", "copy", "devices fan lamp pump", "surely\nfan", "starters fan\n", "hello", "off off",
+            "drop -1", "drop +1", "drop 1 ", "drop x", "drop 1 1", "put", "put ", "put fan :", "put fan : ", "put fan lamp",
+            "put fan :  pump", "put : fan",
+            "put > : pump", "put : : pump", "put  : pump", "put > ", "put fan : >", "put fan : pump > lamp", "wakes fan", "wakes >",
+            "wakes > >", "wakes > > fan", "wakes : > fan", "wakes  > fan", "wakes fan > pump ", "sleeps fan pump", "stays  fan",
+            "stays fan ", "stays :", "stirs >", "tell stays", "keep", "copy", "devices fan lamp pump", "surely\nfan", "starters fan\n",
+            "hello", "off off",
         ]
-        for value in values + [value for value in odd_values() if not isinstance(value, str)] + [Book(TEXT), desk, desk.watch, ("on",), ["on"], {"on": 1}]:
+        for value in values + [value for value in odd_values() if not isinstance(value, str)] + [Book(TEXT), desk, desk.watch, ("on",),
+            ["on"], {"on": 1}]:
             before = state(desk.watch)
             self.refused(BadLine, value, desk.say, value)
             self.refused(BadLine, value, desk.say, line=value)
@@ -172,22 +179,26 @@ class Promise75(Case):
     def test_words_as_they_stand(self):
         desk = Desk(START)
         for told, error, value in (
-            ("stays fox", BadFact, ("stays", ("fox",))), ("stays lamp fan", BadFact, ("stays", ("lamp", "fan"))), ("stirs 1 2", BadFact, ("stirs", ("1", "2"))),
+            ("stays fox", BadFact, ("stays", ("fox",))), ("stays lamp fan", BadFact, ("stays", ("lamp", "fan"))), ("stirs 1 2", BadFact,
+            ("stirs", ("1", "2"))),
             ("wakes fan > fan", BadFact, ("wakes", ("fan",), "fan")), ("sleeps fox fan > FAN", BadFact, ("sleeps", ("fox", "fan"), "FAN")),
             ("wakes > fox", BadFact, ("wakes", (), "fox")), ("stays fan> pump", BadFact, ("stays", ("fan>", "pump"))), ("drop 4", NoFact, 4),
-            ("drop 123456789", NoFact, 123456789), ("put fox", BadDevice, "fox"), ("put fox : fan", BadDevice, "fox"), ("put fan : fan", BadLot, ("fan",)),
+            ("drop 123456789", NoFact, 123456789), ("put fox", BadDevice, "fox"), ("put fox : fan", BadDevice, "fox"), ("put fan : fan",
+            BadLot, ("fan",)),
             ("put fan : pump lamp", BadLot, ("pump", "lamp")), ("put fan : fox", BadLot, ("fox",)), ("put fan : lamp lamp", BadLot, ("lamp", "lamp")),
             ("put fan : 1", BadLot, ("1",)), ("coming fox", BadDevice, "fox"), ("coming FAN", BadDevice, "FAN"), ("surely fox", BadLot, ("fox",)),
             ("surely lamp fan", BadLot, ("lamp", "fan")), ("perhaps fan fan", BadLot, ("fan", "fan")), ("starters pump fan", BadLot, ("pump", "fan")),
             ("blockers nobody", BadLot, ("nobody",)), ("is stays fox", BadClaims, (("stays", ("fox",)),)), ("undo", NothingToUndo, None),
-            ("is wakes lamp fan > pump", BadClaims, (("wakes", ("lamp", "fan"), "pump"),)), ("is sleeps fan > fan", BadClaims, (("sleeps", ("fan",), "fan"),)),
+            ("is wakes lamp fan > pump", BadClaims, (("wakes", ("lamp", "fan"), "pump"),)), ("is sleeps fan > fan", BadClaims, (("sleeps",
+            ("fan",), "fan"),)),
             ("redo", NothingToRedo, None), ("surely >fan", BadLot, (">fan",)), ("surely ::", BadLot, ("::",)), ("coming put", BadDevice, "put"),
         ):
             self.check(desk, error, told, value)
 
     def test_what_the_watch_raises(self):
         desk = Desk(START + "\nput fan : pump")
-        for told, error, value in (("put fan", IsOn, "fan"), ("put pump : lamp", IsOn, "pump"), ("coming pump", IsOn, "pump"), ("put lamp : pump", BadLot, ("pump",))):
+        for told, error, value in (("put fan", IsOn, "fan"), ("put pump : lamp", IsOn, "pump"), ("coming pump", IsOn, "pump"),
+            ("put lamp : pump", BadLot, ("pump",))):
             self.check(desk, error, told, value)
         desk = Desk("devices a b c d\nstirs a\nstirs b\nstirs c\nseen")
         self.check(desk, Full, "stirs d", 3)
@@ -219,10 +230,14 @@ class Promise76(Case):
         desk = Desk("devices a b c\nseen")
         for told, wanted in (
             ("on", "-"), ("surely", "-"), ("surely a", "a"), ("perhaps", "a b c"), ("perhaps a", "a b c"), ("starters", "-"), ("blockers", "none"),
-            ("starters a b", "a b"), ("blockers a b", "a c, b c"), ("blockers a b c", "a b, a c, b c"), ("coming a", "-, b, b c, c"), ("is stays a b c", "always"),
-            ("is stirs a b c", "never"), ("is wakes a > b", "open"), ("is stays", "open"), ("is wakes > b", "open"), ("put a : b", "ok"), ("on", "a b"),
-            ("coming c", "-"), ("put c", "ok"), ("on", "a b c"), ("off", "ok"), ("on", "-"), ("undo", "ok"), ("on", "a b c"), ("redo", "ok"), ("on", "-"),
-            ("is wakes a > b", "always"), ("is wakes a > c", "never"), ("starters b", "a, b"), ("blockers b", "c"), ("drop 0", "ok"), ("is wakes a > b", "open"),
+            ("starters a b", "a b"), ("blockers a b", "a c, b c"), ("blockers a b c", "a b, a c, b c"), ("coming a", "-, b, b c, c"),
+            ("is stays a b c", "always"),
+            ("is stirs a b c", "never"), ("is wakes a > b", "open"), ("is stays", "open"), ("is wakes > b", "open"), ("put a : b", "ok"),
+            ("on", "a b"),
+            ("coming c", "-"), ("put c", "ok"), ("on", "a b c"), ("off", "ok"), ("on", "-"), ("undo", "ok"), ("on", "a b c"), ("redo",
+            "ok"), ("on", "-"),
+            ("is wakes a > b", "always"), ("is wakes a > c", "never"), ("starters b", "a, b"), ("blockers b", "c"), ("drop 0", "ok"),
+            ("is wakes a > b", "open"),
             ("stirs b", "ok"),
         ):
             self.alike(wanted, desk.say(told))
@@ -248,14 +263,16 @@ class Promise76(Case):
     def test_devices_called_by_words_of_lines(self):
         desk = Desk("devices seen put off\nwakes put > off\nseen")
         for told, wanted in (
-            ("put put : off", "ok"), ("on", "put off"), ("off", "ok"), ("on", "-"), ("put off", "ok"), ("coming seen", "-, put"), ("surely put", "put off"),
+            ("put put : off", "ok"), ("on", "put off"), ("off", "ok"), ("on", "-"), ("put off", "ok"), ("coming seen", "-, put"),
+            ("surely put", "put off"),
             ("is wakes put > off", "always"), ("is stays off", "always"), ("starters off", "off, put"), ("stays seen", "ok"), ("put seen", "ok"),
             ("on", "seen off"), ("is stays seen", "always"), ("perhaps seen put", "seen put off"), ("blockers off", "seen"),
         ):
             self.alike(wanted, desk.say(told))
         desk = Desk("devices on is undo redo coming drop\nseen")
         for told, wanted in (
-            ("put on", "ok"), ("on", "on"), ("put is : undo", "ok"), ("on", "on is undo"), ("is wakes on > is", "never"), ("undo", "ok"), ("on", "on"),
+            ("put on", "ok"), ("on", "on"), ("put is : undo", "ok"), ("on", "on is undo"), ("is wakes on > is", "never"), ("undo", "ok"),
+            ("on", "on"),
             ("redo", "ok"), ("on", "on is undo"), ("coming coming", "-, drop, redo, redo drop"), ("is stays undo", "open"), ("is stirs is", "open"),
             ("starters undo", "on is, undo"), ("drop 0", "ok"), ("surely drop", "drop"), ("off", "ok"), ("coming undo", "-"),
         ):

@@ -136,7 +136,8 @@ class Promise73(Case):
                 self.check(value, 0)
 
     def test_without_a_line_seen(self):
-        for text in ("", "\n", "seen ", " seen", "Seen", "seen\t", TEXT, TEXT + "\n", TEXT + "\nseen ", TEXT + "\noff\nput fan", "off\nnothing", "\n\n\n"):
+        for text in ("", "\n", "seen ", " seen", "Seen", "seen\t", TEXT, TEXT + "\n", TEXT + "\nseen ", TEXT + "\noff\nput fan",
+            "off\nnothing", "\n\n\n"):
             self.check(text, len(text.split("\n")) + 1)
         self.check("stirs\nstirs\nseenseen", 4)
 
@@ -171,15 +172,18 @@ class Promise73(Case):
             "put fan: pump", "put fan :pump", "put > : pump", "put : : pump", "put fan : >", "put fan : :", "put fan : pump : lamp", "put fan > pump",
             "stays ", "stays  fan", " stays", "stays fan ", "stays >", "stays :", "stays fan > pump", "stirs fan : pump", "Stays", "stay fan",
             "wakes", "wakes fan", "wakes >", "wakes > ", "wakes fan >", "wakes fan > ", "wakes fan  > pump", "wakes fan >  pump", "wakes > > fan",
-            "wakes > :", "wakes : > fan", "wakes fan > pump lamp", "wakes fan > pump > lamp", "sleeps fan", "sleeps", "sleeps pump", "drop 0x1", "nothing",
+            "wakes > :", "wakes : > fan", "wakes fan > pump lamp", "wakes fan > pump > lamp", "sleeps fan", "sleeps", "sleeps pump",
+            "drop 0x1", "nothing",
         ):
             self.check(TEXT + "\nseen\n" + bad, 7)
             self.check(TEXT + "\nseen\nstirs fan\nput fan : pump\n" + bad + "\noff\nnothing", 9)
 
     def test_lines_that_are_refused(self):
         for bad in (
-            "drop 4", "drop 999999999", "put fox", "put fan : fan", "put fan : fox", "put fan : pump lamp", "put fan : pump pump", "put fan", "put fan : lamp",
-            "stays fox", "stays lamp fan", "stays fan fan", "stays fan", "stirs fan lamp pump", "wakes fox > fan", "wakes fan > fox", "wakes fan > fan",
+            "drop 4", "drop 999999999", "put fox", "put fan : fan", "put fan : fox", "put fan : pump lamp", "put fan : pump pump",
+            "put fan", "put fan : lamp",
+            "stays fox", "stays lamp fan", "stays fan fan", "stays fan", "stirs fan lamp pump", "wakes fox > fan", "wakes fan > fox",
+            "wakes fan > fan",
             "wakes pump > lamp", "wakes lamp fan > pump", "sleeps fan > pump", "put Fan", "put f4n", "stays fan> pump", "stays 1", "put seen",
         ):
             self.check(TEXT + "\nseen\n" + bad, 7)
@@ -189,7 +193,8 @@ class Promise73(Case):
         self.check("devices a b c d\nstirs a\nstirs b\nstirs c\nseen\nstirs d", 6)
 
     def test_lines_that_are_let(self):
-        for good in ("drop 0", "drop 3", "put fan : pump", "put fan : lamp pump", "put lamp", "off", "stays", "stays lamp", "wakes fan > lamp", "sleeps > fan", "stirs pump"):
+        for good in ("drop 0", "drop 3", "put fan : pump", "put fan : lamp pump", "put lamp", "off", "stays", "stays lamp",
+            "wakes fan > lamp", "sleeps > fan", "stirs pump"):
             text = TEXT + "\nseen\n" + good
             self.alike(text, journal(read_journal(text)))
             self.alike(1, Desk(text).watch.done)

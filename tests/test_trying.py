@@ -362,6 +362,12 @@ class Promise58(Case):
         self.is_true(shows_trials(BOOK, OFFERS, PUMPS, (0, always)))
         for value in ((False, always), (0, never), (0, list(always)), [0, always], (0, ("known", True)), (0, ("always", "known")), (), (1, always)):
             self.is_false(shows_trials(BOOK, OFFERS, PUMPS, value))
+        # Both offers cost the same, but by the second one the claim is not known.
+        same = ((("fan",), 1), (("pump",), 1))
+        self.is_true(shows_trials(BOOK, same, LAMPS, (1, right)))
+        for word in ("open", "always", "never"):
+            rows = ((("fan", "pump"), never), (("pump",), ("known", word)))
+            self.is_false(shows_trials(BOOK, same, LAMPS, (1, ("try", 1, rows))))
         one = (OFFERS[0][:1] + (1,),)
         self.is_true(shows_trials(BOOK, one, LAMPS, (1, right)))
         self.is_false(shows_trials(BOOK, one, LAMPS, (True, right)))

@@ -792,7 +792,8 @@ class Promise69(Case):
 
     def test_wrong_claims(self):
         watch = Watch(BOOK)
-        for value in odd_values() + [(), PUMPS, [PUMPS], (PUMPS, PUMPS), (PUMPS, LAMPS, ("stays", ())), (list(PUMPS),), "stays fan", BOOK, BOOK.facts]:
+        for value in odd_values() + [(), PUMPS, [PUMPS], (PUMPS, PUMPS), (PUMPS, LAMPS, ("stays", ())), (list(PUMPS),), "stays fan", BOOK,
+            BOOK.facts]:
             self.refused(BadClaims, value, watch.judged, value)
         for value in wrong_facts():
             for claims in ((value,), (value, PUMPS), (PUMPS, value)):
